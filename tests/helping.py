@@ -1,0 +1,210 @@
+"""What several tests need: webs to try, and the document's words gone by hand.
+
+Nothing here asks the program for an answer that a test compares with: it only makes
+webs by Web, and reads their fields.
+"""
+
+import itertools
+import random
+
+from tieword.webs import Web
+
+
+def pairs_between(web, one, other):
+    pairs = []
+    for first, second, kind, oneway in web.ties:
+        if (first, second) == (one, other):
+            pairs.append((kind, 1 if oneway else 0))
+        elif (first, second) == (other, one):
+            pairs.append((kind, 2 if oneway else 0))
+    return tuple(sorted(pairs))
+
+
+def table_of(web):
+    size = len(web.kinds)
+    return [[pairs_between(web, one, other) for other in range(size)] for one in range(size)]
+
+
+def is_turning_by_hand(web, turning, table):
+    size = len(web.kinds)
+    for one in range(size):
+        if web.kinds[turning[one]] != web.kinds[one]:
+            return False
+        for other in range(one + 1, size):
+            if table[turning[one]][turning[other]] != table[one][other]:
+                return False
+    return True
+
+
+def turnings_by_hand(web):
+    table = table_of(web)
+    orders = itertools.permutations(range(len(web.kinds)))
+    return {order for order in orders if is_turning_by_hand(web, order, table)}
+
+
+def is_alike_by_hand(one, other):
+    size = len(one.kinds)
+    if sorted(one.kinds) != sorted(other.kinds) or len(one.ties) != len(other.ties):
+        return False
+    left, right = table_of(one), table_of(other)
+    for order in itertools.permutations(range(size)):
+        if all(one.kinds[order[i]] == other.kinds[i] for i in range(size)) and all(
+                left[order[i]][order[j]] == right[i][j] for i in range(size) for j in range(i)):
+            return True
+    return False
+
+
+def ranks_by_hand(keys):
+    return [len({other for other in keys if other < key}) for key in keys]
+
+
+def keys_by_hand(table, parting):
+    size = len(parting)
+    return [(parting[at], tuple(sorted((parting[other], table[at][other]) for other in range(size) if other != at)))
+            for at in range(size)]
+
+
+def settled_by_hand(table, parting):
+    while True:
+        following = ranks_by_hand(keys_by_hand(table, parting))
+        if following == parting:
+            return following
+        parting = following
+
+
+def chosen_by_hand(table, parting, place):
+    own = parting[place]
+    if parting.count(own) > 1:
+        parting = [rank + 1 if rank > own or (rank == own and at != place) else rank
+                   for at, rank in enumerate(parting)]
+    return settled_by_hand(table, parting)
+
+
+def open_by_hand(parting):
+    for rank in range(len(parting)):
+        if parting.count(rank) > 1:
+            return [place for place in range(len(parting)) if parting[place] == rank]
+    return []
+
+
+def ends_by_hand(web):
+    """All ends of all ways of choices, the one of the least places first."""
+    table = table_of(web)
+    ends = []
+
+    def go(parting):
+        choices = open_by_hand(parting)
+        for place in choices:
+            go(chosen_by_hand(table, parting, place))
+        if not choices:
+            ends.append(sorted(range(len(parting)), key=parting.__getitem__))
+
+    go(settled_by_hand(table, ranks_by_hand(web.kinds)))
+    return ends
+
+
+def row_by_hand(web, order):
+    table = table_of(web)
+    return (tuple(web.kinds[place] for place in order),
+            tuple(table[one][other] for one, other in itertools.combinations(order, 2)))
+
+
+def made_by_hand(size, turnings):
+    made = {tuple(range(size))}
+    new = list(made)
+    while new:
+        at = new.pop()
+        for turning in turnings:
+            then = tuple(turning[place] for place in at)
+            if then not in made:
+                made.add(then)
+                new.append(then)
+    return made
+
+
+def both_ways(pairs):
+    return [(one, other, 0, False) for one, other in pairs]
+
+
+def ring(*places):
+    return both_ways(zip(places, places[1:] + places[:1]))
+
+
+def bare(size):
+    return Web(["a"] * size, [])
+
+
+def named_webs():
+    """Webs whose places look alike, or have many turnings, or none."""
+    six = ring(0, 1, 2, 3, 4, 5)
+    return {
+        "one place": Web(["a"], []),
+        "two alike": bare(2),
+        "five without ties": bare(5),
+        "rings of three and four": Web(["a"] * 7, ring(0, 1, 2) + ring(3, 4, 5, 6)),
+        "rings of three and four, mixed": Web(["a"] * 7, ring(0, 2, 4) + ring(1, 5, 3, 6)),
+        "two rings of three": Web(["a"] * 6, ring(0, 1, 2) + ring(3, 4, 5)),
+        "ring of six": Web(["a"] * 6, six),
+        "six, straight across": Web(["a"] * 6, six + both_ways([(0, 3), (1, 4), (2, 5)])),
+        "six, one across and two aslant": Web(["a"] * 6, six + both_ways([(0, 3), (1, 5), (2, 4)])),
+        "ring of seven": Web(["a"] * 7, ring(0, 3, 6, 2, 5, 1, 4)),
+        "row of seven": Web(["a"] * 7, both_ways([(k, k + 1) for k in range(6)])),
+        "one-way ring of five": Web(["a"] * 5, [(k, (k + 1) % 5, 3, True) for k in range(5)]),
+        "star of six": Web(["b"] + ["a"] * 5, both_ways([(0, k) for k in range(1, 6)])),
+        "three pairs": Web(["a"] * 6, both_ways([(0, 5), (1, 4), (2, 3)])),
+        "ties manifold": Web(["a"] * 4, ring(0, 1, 2, 3) + ring(0, 1, 2, 3) + [(0, 1, 0, True), (3, 2, 0, True)]),
+        "all unlike": Web(["a", "b", "c"], both_ways([(0, 1)])),
+    }
+
+
+def random_web(source, size, kinds, most, tie_kinds):
+    ties = []
+    if size > 1:
+        for one, other in (source.sample(range(size), 2) for tie in range(source.randint(0, most))):
+            ties.append((one, other, source.choice(tie_kinds), source.random() < 0.3))
+    return Web([source.choice(kinds) for place in range(size)], ties)
+
+
+def woven(source):
+    """Six places that look alike, each with the same ties: most of them are not alike at all."""
+    ties = []
+    used = set()
+    for kind in (0, 1):
+        oneway = source.random() < 0.7
+        for again in range(200):
+            after = source.sample(range(6), 6)
+            pairs = {frozenset((place, after[place])) for place in range(6) if place != after[place]}
+            if len(pairs) == 6 and not used & pairs:
+                used |= pairs
+                ties += [(place, after[place], kind, oneway) for place in range(6)]
+                break
+    return Web(["a"] * 6, ties)
+
+
+def woven_webs(seed, many):
+    source = random.Random(seed)
+    return [woven(source) for at in range(many)]
+
+
+def random_webs(seed, many, most_size=7):
+    source = random.Random(seed)
+    webs = []
+    for at in range(many):
+        kinds = source.choice([["a"], ["a", "b"], ["z", "ab", "b"]])
+        tie_kinds = source.choice([[0], [0, 1], [9, 10, 10 ** 30 - 1]])
+        webs.append(random_web(source, source.randint(1, most_size), kinds, source.choice([3, 6, 12]), tie_kinds))
+    return webs
+
+
+def random_order(source, size):
+    return source.sample(range(size), size)
+
+
+def random_parting(source, size):
+    return ranks_by_hand([source.randint(0, size) for place in range(size)])
+
+
+def turned_by_hand(web, order):
+    spot = {place: k for k, place in enumerate(order)}
+    return Web([web.kinds[place] for place in order],
+               [(spot[one], spot[other], kind, oneway) for one, other, kind, oneway in web.ties])

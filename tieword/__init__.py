@@ -1,0 +1,1 @@
+"""Tieword: one writing for all webs that are alike."""
