@@ -6,6 +6,7 @@ webs by Web, and reads their fields.
 
 import itertools
 import random
+import re
 
 from tieword.webs import Web
 
@@ -208,3 +209,133 @@ def turned_by_hand(web, order):
     spot = {place: k for k, place in enumerate(order)}
     return Web([web.kinds[place] for place in order],
                [(spot[one], spot[other], kind, oneway) for one, other, kind, oneway in web.ties])
+
+
+NUMBER = "(?:0|[1-9][0-9]{0,29})"
+MARKS = f"(?:[~<>]{NUMBER})+"
+RING_SIGN = rf"\{{[1-9][0-9]?(?::{MARKS})?\}}"
+# A bough that has been looked at is put down as "!".
+PLACE = f"[a-z]{{1,3}}(?:{RING_SIGN})*!*"
+RUN = f"{PLACE}(?:{MARKS}{PLACE})*"
+
+
+def is_form_by_hand(text):
+    """Whether a text has the form of a writing, its rings not looked at."""
+    if "!" in text or "\n" in text:
+        return False
+    while True:
+        shorter = re.sub(rf"\({MARKS}{RUN}\)", "!", text)
+        if shorter == text:
+            return re.fullmatch(rf"{RUN}(?:\.{RUN})*", text) is not None
+        text = shorter
+
+
+def are_rings_by_hand(text):
+    """Whether each ring of a text that has the form is opened once, and closed once further behind at another place."""
+    opened, closed, place = {}, {}, -1
+    for kind, number, colon in re.findall(r"([a-z]+)|\{([0-9]+)(:?)", text):
+        if kind:
+            place += 1
+        else:
+            (closed if colon else opened).setdefault(number, []).append(place)
+    once = all(len(places) == 1 for places in list(opened.values()) + list(closed.values()))
+    return once and opened.keys() == closed.keys() and all(opened[number] < closed[number] for number in opened)
+
+
+def refusal_by_hand(text):
+    """The name of what a text is refused with, or None."""
+    if not is_form_by_hand(text) or not are_rings_by_hand(text):
+        return "BadText"
+    places, ties = len(re.findall("[a-z]+", text)), len(re.findall("[~<>]", text))
+    return "TooGreat" if places > 7 or ties > 12 else None
+
+
+class TextMaker:
+    """Makes a text by chance, and keeps the kinds and ties that it writes."""
+
+    def __init__(self, source, size, most_marks=2):
+        self.source = source
+        self.most_marks = most_marks
+        self.kinds = [source.choice(["a", "b", "zz", "abc"]) for place in range(size)]
+        self.ties = []
+        self.rings = {place: [] for place in range(size)}
+        # Each place but the first comes behind one ahead of it, or begins a run.
+        self.ahead = {}
+        self.marks = {}
+        at = [0]
+        for place in range(1, size):
+            if source.random() < 0.2:
+                at = []
+            else:
+                at = at[:source.randint(1, len(at))]
+                self.ahead[place] = at[-1]
+                self.marks[place] = self.make_marks(at[-1], place)
+            at = at + [place]
+
+    def make_marks(self, ahead, behind):
+        text = ""
+        for again in range(self.source.randint(1, self.most_marks)):
+            sign = self.source.choice("~<>")
+            kind = self.source.choice([0, 1, 10, self.source.randrange(10 ** 30), 10 ** 30 - 1])
+            ends = (behind, ahead) if sign == "<" else (ahead, behind)
+            self.ties.append(ends + (kind, sign != "~"))
+            text += f"{sign}{kind}"
+        return text
+
+    def add_rings(self, most):
+        if len(self.kinds) > 1:
+            for number in self.source.sample(range(1, 100), self.source.randint(0, most)):
+                ahead, behind = sorted(self.source.sample(range(len(self.kinds)), 2))
+                self.rings[ahead].append(f"{{{number}}}")
+                self.rings[behind].append(f"{{{number}:{self.make_marks(ahead, behind)}}}")
+
+    def run(self, place):
+        self.source.shuffle(self.rings[place])
+        text = self.kinds[place] + "".join(self.rings[place])
+        behind = [other for other in self.ahead if self.ahead[other] == place]
+        for other in behind:
+            more = self.marks[other] + self.run(other)
+            last = other == behind[-1] and self.source.random() < 0.7
+            text += more if last else f"({more})"
+        return text
+
+    def text(self):
+        return ".".join(self.run(place) for place in range(len(self.kinds)) if place not in self.ahead)
+
+
+def sorted_ties(ties):
+    return sorted(tie if tie[3] or tie[0] < tie[1] else (tie[1], tie[0]) + tie[2:] for tie in ties)
+
+
+def marks_by_hand(pairs):
+    return "".join("~><"[lead] + str(kind) for kind, lead in pairs)
+
+
+def writing_by_hand(web):
+    """The writing by the document's words, from the least of all ends."""
+    least = turned_by_hand(web, min(ends_by_hand(web), key=lambda end: row_by_hand(web, end)))
+    table = table_of(least)
+    size = len(least.kinds)
+    came = {}
+    for start in range(size):
+        todo = [(start, None)]
+        while todo:
+            place, ahead = todo.pop()
+            if place not in came:
+                came[place] = ahead
+                todo += [(other, place) for other in reversed(range(size)) if table[place][other]]
+    stood = list(came)
+    pairs = [(closing, opening) for closing in range(size) for opening in range(closing)
+             if table[stood[opening]][stood[closing]] and came[stood[closing]] != stood[opening]]
+    signs = {place: "" for place in stood}
+    for number, (closing, opening) in enumerate(sorted(pairs), 1):
+        ahead, behind = stood[opening], stood[closing]
+        signs[ahead] += f"{{{number}}}"
+        signs[behind] += f"{{{number}:{marks_by_hand(table[ahead][behind])}}}"
+
+    def run(place):
+        more = [marks_by_hand(table[place][other]) + run(other) for other in stood if came[other] == place]
+        boughs = "".join(f"({bough})" for bough in more[:-1])
+        return least.kinds[place] + signs[place] + boughs + "".join(more[-1:])
+
+    return ".".join(run(place) for place in stood if came[place] is None)

@@ -20,6 +20,11 @@ isupper items join keys ljust lower lstrip partition pop remove replace reverse 
 setdefault split splitlines startswith strip update upper values zfill bit_length""".split()
 WORDS = """type typing typing_extensions enum Enum IntEnum StrEnum Flag IntFlag Generic Protocol ABC ABCMeta
 namedtuple NamedTuple TypedDict TYPE_CHECKING abstractmethod""".split()
+UNUSED = """register mro elements open input version_info with_traceback add_note attrgetter breakpoint builtins compile
+copyright credits delattr dir eval exec exit gc getattr globals hasattr help id importlib license locals methodcaller os
+quit setattr super type vars sys""".split()
+WALKED = ["zip", "enumerate", "reversed", "range", "items", "keys", "values"]
+WALKERS = "list tuple dict sorted sum any all enumerate zip min max join".split()
 SPECIAL = ["__init__", "__eq__", "__repr__", "__str__", "__len__"]
 
 
@@ -44,6 +49,10 @@ def bound_names(node):
     if isinstance(node, ast.Name) and isinstance(node.ctx, ast.Store):
         return [node.id]
     return []
+
+
+def called(call):
+    return getattr(call.func, "id", getattr(call.func, "attr", None))
 
 
 def names_at_top(tree):
@@ -143,6 +152,45 @@ class Language(unittest.TestCase):
         for where, node in self.nodes():
             if isinstance(node, ast.Attribute):
                 self.assertTrue(node.attr in own or node.attr in METHODS, where)
+
+    def test_names_that_are_not_used(self):
+        for where, node in self.nodes():
+            names = bound_names(node)
+            if isinstance(node, ast.Name):
+                names.append(node.id)
+            if isinstance(node, ast.Attribute):
+                names.append(node.attr)
+            self.assertFalse(set(names) & set(UNUSED), where)
+
+    def test_no_local_is_called_like_a_class_or_an_import(self):
+        for name, tree in self.trees.items():
+            taken = [node.name for node in tree.body if isinstance(node, ast.ClassDef)]
+            for node in tree.body:
+                if isinstance(node, ast.ImportFrom):
+                    taken += [alias.name for alias in node.names]
+            for node in ast.walk(tree):
+                if isinstance(node, (ast.arg, ast.Name)):
+                    self.assertFalse(set(bound_names(node)) & set(taken), f"{name}:{node.lineno}")
+
+    def test_no_name_is_a_method_here_and_a_value_there(self):
+        methods, values = set(), set()
+        for where, node in self.nodes():
+            if isinstance(node, ast.ClassDef):
+                methods.update(inner.name for inner in node.body if isinstance(inner, ast.FunctionDef))
+            if isinstance(node, ast.Attribute) and isinstance(node.ctx, ast.Store):
+                values.add(node.attr)
+        self.assertEqual(methods & values, set())
+
+    def test_walked_at_once(self):
+        fine = set()
+        for where, node in self.nodes():
+            if isinstance(node, (ast.For, ast.comprehension)):
+                fine.add(node.iter)
+            if isinstance(node, ast.Call) and called(node) in WALKERS:
+                fine.update(node.args)
+        for where, node in self.nodes():
+            if isinstance(node, ast.Call) and called(node) in WALKED:
+                self.assertIn(node, fine, where)
 
     def test_imports(self):
         draws = {}
