@@ -7,6 +7,7 @@ webs by Web, and reads their fields.
 import itertools
 import random
 import re
+from collections import Counter
 
 from tieword.webs import Web
 
@@ -41,6 +42,16 @@ def turnings_by_hand(web):
     table = table_of(web)
     orders = itertools.permutations(range(len(web.kinds)))
     return {order for order in orders if is_turning_by_hand(web, order, table)}
+
+
+def orbits_by_hand(web):
+    turnings = turnings_by_hand(web)
+    found = []
+    for place in range(len(web.kinds)):
+        orbit = sorted({turning[place] for turning in turnings})
+        if orbit not in found:
+            found.append(orbit)
+    return found
 
 
 def is_alike_by_hand(one, other):
@@ -155,6 +166,9 @@ def named_webs():
         "three pairs": Web(["a"] * 6, both_ways([(0, 5), (1, 4), (2, 3)])),
         "ties manifold": Web(["a"] * 4, ring(0, 1, 2, 3) + ring(0, 1, 2, 3) + [(0, 1, 0, True), (3, 2, 0, True)]),
         "all unlike": Web(["a", "b", "c"], both_ways([(0, 1)])),
+        # A search of it goes wrong where turnings count that move the place chosen last.
+        "two kinds of ties, woven": Web(["a"] * 6, ring(0, 2, 4, 1, 3, 5) + [
+            (one, other, 1, False) for one, other in [(0, 1), (0, 4), (1, 5), (2, 3), (2, 5), (3, 4)]]),
     }
 
 
@@ -311,9 +325,10 @@ def marks_by_hand(pairs):
     return "".join("~><"[lead] + str(kind) for kind, lead in pairs)
 
 
-def writing_by_hand(web):
-    """The writing by the document's words, from the least of all ends."""
-    least = turned_by_hand(web, min(ends_by_hand(web), key=lambda end: row_by_hand(web, end)))
+def written_by_hand(web):
+    """The writing by the document's words, from the least of all ends, and the places in the order of the text."""
+    end = min(ends_by_hand(web), key=lambda end: row_by_hand(web, end))
+    least = turned_by_hand(web, end)
     table = table_of(least)
     size = len(least.kinds)
     came = {}
@@ -338,4 +353,41 @@ def writing_by_hand(web):
         boughs = "".join(f"({bough})" for bough in more[:-1])
         return least.kinds[place] + signs[place] + boughs + "".join(more[-1:])
 
-    return ".".join(run(place) for place in stood if came[place] is None)
+    return ".".join(run(place) for place in stood if came[place] is None), [end[place] for place in stood]
+
+
+def writing_by_hand(web):
+    return written_by_hand(web)[0]
+
+
+def same(one, other):
+    """Whether two webs have the same kinds and ties."""
+    return (one.kinds, one.ties) == (other.kinds, other.ties)
+
+
+def is_way_by_hand(small, great, way, small_table, great_table):
+    size = len(small.kinds)
+    if any(great.kinds[way[place]] != small.kinds[place] for place in range(size)):
+        return False
+    return all(not Counter(small_table[one][other]) - Counter(great_table[way[one]][way[other]])
+               for one, other in itertools.combinations(range(size), 2))
+
+
+def ways_by_hand(small, great):
+    """All ways, rising: all lists of unlike places are looked at."""
+    tables = table_of(small), table_of(great)
+    lists = itertools.permutations(range(len(great.kinds)), len(small.kinds))
+    return [list(way) for way in lists if is_way_by_hand(small, great, way, *tables)]
+
+
+def least_by_hand(ways, turnings):
+    """Those ways that are the least of all that come of them by the turnings."""
+    return [way for way in ways if way == min([way[place] for place in turning] for turning in turnings)]
+
+
+def within(source, web, size):
+    """A web of so many places that lies in this one, and a way in which it does."""
+    way = source.sample(range(len(web.kinds)), size)
+    ties = [(way.index(one), way.index(other), kind, oneway) for one, other, kind, oneway in web.ties
+            if one in way and other in way and source.random() < 0.7]
+    return Web([web.kinds[place] for place in way], ties), way

@@ -3,8 +3,8 @@ import math
 import random
 import unittest
 
-from tests.helping import (bare, both_ways, is_turning_by_hand, made_by_hand, named_webs, random_order, random_webs,
-                           ring, table_of, turned_by_hand, turnings_by_hand, woven_webs)
+from tests.helping import (bare, both_ways, is_turning_by_hand, made_by_hand, named_webs, orbits_by_hand, random_order,
+                           random_webs, ring, table_of, turned_by_hand, turnings_by_hand, woven_webs)
 from tieword.errors import TooMany, WebError
 from tieword.groups import all_turnings, count_turnings, few_turnings, orbits
 from tieword.search import searched
@@ -29,16 +29,6 @@ def webs_to_try(seed, many=60):
 def webs_with_few(seed, many=60):
     """Webs whose turnings are not too many to be told."""
     return [web for web in webs_to_try(seed, many) if len(turnings_by_hand(web)) <= 720]
-
-
-def orbits_by_hand(web):
-    turnings = turnings_by_hand(web)
-    found = []
-    for place in range(web.size()):
-        orbit = sorted({turning[place] for turning in turnings})
-        if orbit not in found:
-            found.append(orbit)
-    return found
 
 
 class Few(unittest.TestCase):

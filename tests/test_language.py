@@ -192,6 +192,25 @@ class Language(unittest.TestCase):
             if isinstance(node, ast.Call) and called(node) in WALKED:
                 self.assertIn(node, fine, where)
 
+    def test_sets_stand_within_sorted_or_len_or_beside_in(self):
+        fine = set()
+        for where, node in self.nodes():
+            if isinstance(node, ast.Call) and called(node) in ("sorted", "len") and not node.keywords:
+                fine.update(node.args)
+            if isinstance(node, ast.Compare) and isinstance(node.ops[0], (ast.In, ast.NotIn)):
+                fine.update(node.comparators)
+        for where, node in self.nodes():
+            if isinstance(node, (ast.Set, ast.Call)) and (isinstance(node, ast.Set) or called(node) == "set"):
+                self.assertIn(node, fine, where)
+
+    def test_names_at_a_files_top_are_bound_once(self):
+        for name, tree in self.trees.items():
+            names = names_at_top(tree)
+            for node in tree.body:
+                if isinstance(node, ast.ImportFrom):
+                    names += [alias.asname or alias.name for alias in node.names]
+            self.assertEqual(len(set(names)), len(names), name)
+
     def test_imports(self):
         draws = {}
         for name, tree in self.trees.items():

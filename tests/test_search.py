@@ -1,10 +1,11 @@
 import itertools
 import random
 import unittest
+from unittest import mock
 
-from tests.helping import (bare, both_ways, ends_by_hand, is_alike_by_hand, is_turning_by_hand, made_by_hand,
-                           named_webs, random_order, random_webs, ring, row_by_hand, table_of, turned_by_hand,
-                           turnings_by_hand, woven_webs)
+from tests.helping import (bare, both_ways, chosen_by_hand, ends_by_hand, is_alike_by_hand, is_turning_by_hand,
+                           made_by_hand, named_webs, open_by_hand, random_order, random_webs, ranks_by_hand, ring,
+                           row_by_hand, settled_by_hand, table_of, turned_by_hand, turnings_by_hand, woven_webs)
 from tieword.search import least_order, least_row, row_of, searched
 from tieword.webs import Web, parts_of
 
@@ -206,6 +207,75 @@ class Searched(unittest.TestCase):
     def test_web_with_no_turning_but_one(self):
         self.assertEqual(searched(named_webs()["all unlike"])[2], [])
         self.assertEqual(searched(Web(["a"] * 2, [(0, 1, 3, True)]))[2], [])
+
+
+class SearchByHand:
+    """The search by the document's words: which ends it comes to, and in what order."""
+
+    def __init__(self, web):
+        self.web = web
+        self.table = table_of(web)
+        self.ends = []
+        self.first_way = []
+        self.turnings = []
+        # Whether what is left behind the point where the way parted from the first one is left out.
+        self.over = False
+        self.go([], settled_by_hand(self.table, ranks_by_hand(web.kinds)))
+
+    def left_out(self, way, tried, place):
+        fixing = [turning for turning in self.turnings if all(turning[each] == each for each in way)]
+        led = set(tried)
+        for again in range(len(self.web.kinds)):
+            led |= {turning[each] for turning in fixing for each in led}
+        return place in led
+
+    def come_to(self, way, parting):
+        end = sorted(range(len(parting)), key=parting.__getitem__)
+        self.ends.append(end)
+        if len(self.ends) == 1:
+            self.first_way = way
+        elif row_by_hand(self.web, end) == row_by_hand(self.web, self.ends[0]):
+            leads = dict(zip(self.ends[0], end))
+            self.turnings.append([leads[place] for place in range(len(end))])
+            self.over = True
+
+    def go(self, way, parting):
+        choices, tried = open_by_hand(parting), []
+        if not choices:
+            self.come_to(way, parting)
+        for place in choices:
+            if self.left_out(way, tried, place):
+                continue
+            tried.append(place)
+            self.go(way + [place], chosen_by_hand(self.table, parting, place))
+            if self.first_way[:len(way)] == way:
+                self.over = False
+            elif self.over:
+                return
+
+
+class LeftOut(unittest.TestCase):
+    def gone_to(self, web):
+        with mock.patch("tieword.search.row_of", wraps=row_of) as asked:
+            searched(web)
+        return [call.args[1] for call in asked.call_args_list]
+
+    def test_no_end_but_those_that_the_words_leave_is_come_to(self):
+        fewer = 0
+        for web in many_webs(40) + woven_webs(40, 20):
+            by_hand = SearchByHand(web)
+            self.assertEqual(self.gone_to(web), by_hand.ends)
+            self.assertEqual(searched(web)[2], by_hand.turnings)
+            fewer += len(by_hand.ends) < len(ends_by_hand(web))
+        self.assertGreater(fewer, 20)
+
+    def test_seven_places(self):
+        self.assertEqual(len(self.gone_to(bare(7))), 7)
+        webs = named_webs()
+        for name in ("rings of three and four", "rings of three and four, mixed", "ring of seven"):
+            ends = self.gone_to(webs[name])
+            self.assertEqual(ends, SearchByHand(webs[name]).ends)
+            self.assertLess(len(ends), 12)
 
 
 class NothingKeptOrChanged(unittest.TestCase):

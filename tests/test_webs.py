@@ -12,7 +12,7 @@ TIE = (0, 1, 0, False)
 
 class Refused(unittest.TestCase):
     def refused(self, refusal, kinds, ties):
-        with self.subTest(kinds=kinds, ties=ties):
+        with self.subTest(kinds=kinds, ties=[[hex(each) for each in tie] for tie in ties]):
             with self.assertRaises(refusal):
                 Web(kinds, ties)
             with self.assertRaises(WebError):
@@ -63,6 +63,14 @@ class Refused(unittest.TestCase):
         self.refused(BadTie, ["a"] * 3, [(3, 4, 0, False)])
         self.refused(BadTie, ["a"] * 3, [(-2, -1, 0, False)])
         self.refused(BadTie, ["a"] * 3, [(3, 3, 10 ** 30, False)])
+
+    def test_numbers_of_thousands_of_figures(self):
+        # Python refuses to write such a number, so no refusal may try to show it.
+        for great in (10 ** 5000, -10 ** 5000):
+            for oneway in (False, True):
+                self.refused(BadTie, ["a", "b"], [(0, 1, great, oneway)])
+                self.refused(BadTie, ["a", "b"], [(great, 1, 0, oneway)])
+                self.refused(BadTie, ["a", "b"], [(0, great, 0, oneway)])
 
     def test_first_that_is_due(self):
         loop = (0, 0, 0, False)
@@ -227,6 +235,12 @@ class Turned(unittest.TestCase):
         self.assertEqual(order, [2, 0, 1])
         order.clear()
         self.assertEqual((like.kinds, like.ties, like.size()), (["c", "a", "b"], [(1, 2, 5, True)], 3))
+
+    def test_numbers_of_thousands_of_figures(self):
+        for great in (10 ** 5000, -10 ** 5000):
+            with self.assertRaises(BadOrder):
+                turned(bare(2), [0, great])
+            self.assertIs(is_pairing(bare(2), bare(2), [0, great]), False)
 
     def test_refuses_what_is_no_order(self):
         for size in (1, 2, 3, 7):

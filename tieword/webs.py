@@ -33,7 +33,8 @@ def refuse_wrong(kinds, ties):
             raise BadPlace(f"{kind!r} is no kind of a place")
     for tie in ties:
         if not is_tie(tie, len(kinds)):
-            raise BadTie(f"{tie!r} is no tie of this web")
+            # Not shown by its numbers: Python writes none of some thousand figures.
+            raise BadTie("one of the ties is no tie of this web")
 
 
 def lesser_first(tie):
@@ -72,13 +73,18 @@ class Web:
         return [other for other in range(self.size()) if (place, other) in self.joins]
 
 
+# What keeps a web for later keeps this, which shares no list with the one that was handed in.
+def copied(web):
+    return Web(web.kinds, web.ties)
+
+
 def is_order(web, order):
     return sorted(order) == list(range(web.size()))
 
 
 def turned(web, order):
     if not is_order(web, order):
-        raise BadOrder(f"{order!r} is no order of this web")
+        raise BadOrder("the list is no order of this web")
     kinds = [web.kinds[place] for place in order]
     ties = [(order.index(one), order.index(other), kind, oneway) for one, other, kind, oneway in web.ties]
     return Web(kinds, ties)
